@@ -1,0 +1,1 @@
+"""Fastest ways: how soon a boat can be somewhere, with a proof and a way."""

@@ -1,0 +1,71 @@
+"""The least time in which one can have gone somewhere, with its proof."""
+
+from soonways.ratios import lowest_terms
+
+
+# One arrives in the slice of that number, so long after the time that one is in it from.
+# How long it takes is an upper and a lower number; a lower one of 0 stands for longer than any time.
+class Arrival:
+    def __init__(self, number, since, takes, proof):
+        self.number = number
+        self.since = since
+        self.takes = takes
+        self.proof = proof
+
+    def happens(self):
+        return self.takes[1] > 0
+
+    def time(self):
+        return lowest_terms(self.since * self.takes[1] + self.takes[0], self.takes[1])
+
+    def happens_by(self, u):
+        if not self.happens():
+            return False
+        time = self.time()
+        return time[0] <= u * time[1]
+
+
+# For each slice that one who begins at t is in: its number, from when, and how long.
+# The last one lasts for ever: None stands for that.
+def stretches(begins, t):
+    found = []
+    for number, end in enumerate(begins[1:]):
+        if end > t:
+            since = max(t, begins[number])
+            found.append((number, since, end - since))
+    found.append((len(begins) - 1, max(t, begins[-1]), None))
+    return found
+
+
+# The most that any direction takes, as its upper and lower number, and the place of the first that takes it.
+# Where nothing is lacking in any the place is None.
+def longest_take(lacking, row):
+    upper = 0
+    lower = 1
+    first = None
+    for place, lack in enumerate(lacking):
+        # Multiplied across, a lower number of 0 is more than any fraction and not more than another such.
+        if lack > 0 and lack * lower > upper * row[place]:
+            upper = lack
+            lower = row[place]
+            first = place
+    return (upper, lower, first)
+
+
+def ends_here(upper, lower, lasting):
+    # In the last slice there is nothing more to wait for: it ends there or never.
+    if lasting is None:
+        return True
+    return lower > 0 and upper <= lasting * lower
+
+
+def least_time(forecast, x, y, t):
+    forecast.weigh_directions()
+    lacking = [a * x + b * y for a, b in forecast.directions]
+    for number, since, lasting in stretches(forecast.begins, t):
+        row = forecast.supports[number]
+        longest = longest_take(lacking, row)
+        if ends_here(longest[0], longest[1], lasting):
+            proof = (0, 0) if longest[2] is None else forecast.directions[longest[2]]
+            return Arrival(number, since, (longest[0], longest[1]), proof)
+        lacking = [lack - support * lasting for lack, support in zip(lacking, row)]
