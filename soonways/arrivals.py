@@ -4,7 +4,7 @@ from soonways.ratios import lowest_terms
 
 
 # One arrives in the slice of that number, so long after the time that one is in it from.
-# How long it takes is an upper and a lower number; a lower one of 0 stands for longer than any time.
+# Both are an upper and a lower number; a lower one of 0 stands for longer than any time.
 class Arrival:
     def __init__(self, number, since, takes, proof):
         self.number = number
@@ -16,7 +16,8 @@ class Arrival:
         return self.takes[1] > 0
 
     def time(self):
-        return lowest_terms(self.since * self.takes[1] + self.takes[0], self.takes[1])
+        upper = self.since[0] * self.takes[1] + self.takes[0] * self.since[1]
+        return lowest_terms(upper, self.since[1] * self.takes[1])
 
     def happens_by(self, u):
         if not self.happens():
@@ -59,13 +60,17 @@ def ends_here(upper, lower, lasting):
     return lower > 0 and upper <= lasting * lower
 
 
-def least_time(forecast, x, y, t):
+# One begins at a time that is a fraction; a second and a length are parted into as many parts as its lower number says.
+# Counted in such parts every time and length is whole, and velocities stay as they are.
+def least_time(forecast, x, y, start):
     forecast.weigh_directions()
-    lacking = [a * x + b * y for a, b in forecast.directions]
-    for number, since, lasting in stretches(forecast.begins, t):
+    parts = start[1]
+    lacking = [(a * x + b * y) * parts for a, b in forecast.directions]
+    begins = [begin * parts for begin in forecast.begins]
+    for number, since, lasting in stretches(begins, start[0]):
         row = forecast.supports[number]
         longest = longest_take(lacking, row)
         if ends_here(longest[0], longest[1], lasting):
             proof = (0, 0) if longest[2] is None else forecast.directions[longest[2]]
-            return Arrival(number, since, (longest[0], longest[1]), proof)
+            return Arrival(number, (since, parts), (longest[0], longest[1] * parts), proof)
         lacking = [lack - support * lasting for lack, support in zip(lacking, row)]

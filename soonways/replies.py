@@ -1,8 +1,13 @@
 """What each call answers: its numbers in their order, or the number of its refusal alone."""
 
+from soonways.areas import set_corners
 from soonways.arrivals import least_time
+from soonways.courses import are_in_order, first_false_claim, leg_times, row_bound
 from soonways.hulls import holds_origin_within, hull_support
+from soonways.limits import are_claims, are_places, are_velocities, grouped
+from soonways.limits import is_direction, is_place, is_span, is_time, is_velocity
 from soonways.ratios import ratio_text
+from soonways.speeds import greatest_speed
 from soonways.ways import way_pieces
 
 OUT_OF_RANGE = -1
@@ -10,32 +15,10 @@ NO_SUCH_SLICE = -2
 NOT_LATER = -2
 TOO_MANY_SLICES = -3
 NO_SLICES = -4
+NOT_IN_ORDER = -5
 NEVER_ARRIVES = -6
 
-LAST_TIME = 1000000
-FURTHEST_PLACE = 1000000
-FASTEST = 1000
 MOST_SLICES = 12
-MOST_VELOCITIES = 24
-
-
-def is_time(t):
-    return 0 <= t <= LAST_TIME
-
-
-def is_place(x):
-    return -FURTHEST_PLACE <= x <= FURTHEST_PLACE
-
-
-# The numbers of a direction that is asked for have the same range as those of a velocity.
-def is_speed(a):
-    return -FASTEST <= a <= FASTEST
-
-
-def are_velocities(numbers):
-    if len(numbers) % 2 == 1 or not 1 <= len(numbers) // 2 <= MOST_VELOCITIES:
-        return False
-    return all([is_speed(number) for number in numbers])
 
 
 def may_begin(begins, t):
@@ -46,15 +29,23 @@ def may_begin(begins, t):
 
 # Why one can't be asked to go (x, y) from t on; None if one can.
 def task_refusal(forecast, x, y, t):
-    if not is_place(x) or not is_place(y) or not is_time(t):
+    if not is_place(x, y) or not is_time(t):
         return OUT_OF_RANGE
-    if len(forecast.begins) == 0:
+    if forecast.is_empty():
         return NO_SLICES
     return None
 
 
-def text_reply(text):
+def ratio_reply(ratio):
+    text = ratio_text(ratio)
     return [len(text)] + [ord(sign) for sign in text]
+
+
+def corners_reply(corners):
+    reply = [len(corners)]
+    for corner in corners:
+        reply.extend(corner)
+    return reply
 
 
 def reply_begin(forecast):
@@ -69,19 +60,14 @@ def reply_slice(forecast, t, numbers):
         return [NOT_LATER]
     if len(forecast.begins) == MOST_SLICES:
         return [TOO_MANY_SLICES]
-    velocities = [(numbers[k], numbers[k + 1]) for k in range(0, len(numbers), 2)]
-    forecast.add_slice(t, velocities)
+    forecast.add_slice(t, grouped(numbers, 2))
     return [len(forecast.begins)]
 
 
 def reply_hull(forecast, i):
     if not forecast.has_slice(i):
         return [NO_SUCH_SLICE]
-    corners = forecast.hulls[i]
-    reply = [len(corners)]
-    for corner in corners:
-        reply.extend(corner)
-    return reply
+    return corners_reply(forecast.hulls[i])
 
 
 def reply_inside(forecast, i):
@@ -91,7 +77,7 @@ def reply_inside(forecast, i):
 
 
 def reply_support(forecast, i, a, b):
-    if not is_speed(a) or not is_speed(b):
+    if not is_velocity(a, b):
         return [OUT_OF_RANGE]
     if not forecast.has_slice(i):
         return [NO_SUCH_SLICE]
@@ -102,17 +88,17 @@ def reply_least(forecast, x, y, t):
     refusal = task_refusal(forecast, x, y, t)
     if refusal is not None:
         return [refusal]
-    arrival = least_time(forecast, x, y, t)
+    arrival = least_time(forecast, x, y, (t, 1))
     if not arrival.happens():
         return [0] + list(arrival.proof)
-    return [1, arrival.number] + list(arrival.proof) + text_reply(ratio_text(arrival.time()))
+    return [1, arrival.number] + list(arrival.proof) + ratio_reply(arrival.time())
 
 
 def reply_way(forecast, x, y, t):
     refusal = task_refusal(forecast, x, y, t)
     if refusal is not None:
         return [refusal]
-    arrival = least_time(forecast, x, y, t)
+    arrival = least_time(forecast, x, y, (t, 1))
     if not arrival.happens():
         return [NEVER_ARRIVES]
     pieces = way_pieces(forecast, x, y, t, arrival)
@@ -120,14 +106,75 @@ def reply_way(forecast, x, y, t):
     for number, velocity, lasting in pieces:
         reply.append(number)
         reply.extend(velocity)
-        reply.extend(text_reply(ratio_text(lasting)))
+        reply.extend(ratio_reply(lasting))
     return reply
 
 
 def reply_reach(forecast, x, y, t, u):
-    if not is_time(u) or u < t:
+    if not is_span(t, u):
         return [OUT_OF_RANGE]
     refusal = task_refusal(forecast, x, y, t)
     if refusal is not None:
         return [refusal]
-    return [1 if least_time(forecast, x, y, t).happens_by(u) else 0]
+    return [1 if least_time(forecast, x, y, (t, 1)).happens_by(u) else 0]
+
+
+def reply_set(forecast, t, u):
+    if not is_span(t, u):
+        return [OUT_OF_RANGE]
+    if forecast.is_empty():
+        return [NO_SLICES]
+    return corners_reply(set_corners(forecast, t, u))
+
+
+def reply_course(forecast, t, numbers):
+    if not is_time(t) or not are_places(numbers):
+        return [OUT_OF_RANGE]
+    if forecast.is_empty():
+        return [NO_SLICES]
+    times = leg_times(forecast, (t, 1), grouped(numbers, 2))
+    reply = [len(times)]
+    for time in times:
+        reply.extend(ratio_reply(time))
+    return reply
+
+
+def reply_all(forecast):
+    if forecast.is_empty():
+        return [NO_SLICES]
+    return corners_reply(forecast.as_one_slice().hulls[0])
+
+
+def reply_bound(forecast, numbers):
+    if not are_places(numbers):
+        return [OUT_OF_RANGE]
+    if forecast.is_empty():
+        return [NO_SLICES]
+    bound = row_bound(forecast, grouped(numbers, 2))
+    if bound is None:
+        return [NEVER_ARRIVES]
+    return [0] + ratio_reply(bound)
+
+
+def reply_check(forecast, t, numbers):
+    if not is_time(t) or not are_claims(numbers):
+        return [OUT_OF_RANGE]
+    claims = grouped(numbers, 3)
+    if not are_in_order(t, claims):
+        return [NOT_IN_ORDER]
+    if forecast.is_empty():
+        return [NO_SLICES]
+    first = first_false_claim(forecast, t, claims)
+    return [0] if first is None else [1, first]
+
+
+def reply_speed(forecast, i, a, b):
+    if not is_direction(a, b):
+        return [OUT_OF_RANGE]
+    if not forecast.has_slice(i):
+        return [NO_SUCH_SLICE]
+    return [0] + ratio_reply(greatest_speed(forecast.hulls[i], a, b))
+
+
+def reply_slices(forecast):
+    return [len(forecast.begins)] + forecast.begins

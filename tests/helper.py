@@ -1,10 +1,13 @@
 """Calls as they are handed in, answers as they are read, and cases that are drawn."""
 
+import math
 from fractions import Fraction
 
 from soonways.winds import answers
 
 BEGIN = [0]
+ALL = [10]
+SLICES = [14]
 
 LAST_TIME = 1000000
 FURTHEST = 1000000
@@ -13,7 +16,7 @@ HUGE = 10 ** 18
 
 
 def slice_call(t, *velocities):
-    return slice_numbers(t, [number for velocity in velocities for number in velocity])
+    return slice_numbers(t, flat(velocities))
 
 
 def slice_numbers(t, numbers):
@@ -44,6 +47,42 @@ def reach(x, y, t, u):
     return [7, x, y, t, u]
 
 
+def flat(tuples):
+    return [number for numbers in tuples for number in numbers]
+
+
+def set_call(t, u):
+    return [8, t, u]
+
+
+def course(t, *places):
+    return course_numbers(t, flat(places))
+
+
+def course_numbers(t, numbers):
+    return [9, t, len(numbers)] + numbers
+
+
+def bound(*places):
+    return bound_numbers(flat(places))
+
+
+def bound_numbers(numbers):
+    return [11, len(numbers)] + numbers
+
+
+def check(t, *claims):
+    return check_numbers(t, flat(claims))
+
+
+def check_numbers(t, numbers):
+    return [12, t, len(numbers)] + numbers
+
+
+def speed(i, a, b):
+    return [13, i, a, b]
+
+
 def forecast(slices):
     """The calls that make slices of (when it begins, its velocities)."""
     return [slice_call(begin, *velocities) for begin, velocities in slices]
@@ -61,7 +100,7 @@ def split(told):
 
 def ask(*calls):
     """The answers of all calls, a list for each."""
-    found = split(answers([number for call in calls for number in call]))
+    found = split(answers(flat(calls)))
     if len(found) != len(calls):
         raise AssertionError((calls, found))
     return found
@@ -116,8 +155,55 @@ def read_way(answer):
     return pieces
 
 
+def read_corners(answer):
+    """The corners, held to their count."""
+    found = [tuple(answer[k:k + 2]) for k in range(1, len(answer), 2)]
+    if len(answer) != 1 + 2 * answer[0]:
+        raise AssertionError(answer)
+    return found
+
+
+def read_course(answer):
+    """The time of each leg that is sailed."""
+    times = []
+    rest = answer[1:]
+    while rest:
+        time, rest = read_fraction(rest)
+        times.append(time)
+    if len(times) != answer[0]:
+        raise AssertionError(answer)
+    return times
+
+
+def read_one(answer):
+    """The fraction of a bound or a speed, which stands behind a 0."""
+    value, rest = read_fraction(answer[1:])
+    if answer[0] != 0 or rest:
+        raise AssertionError(answer)
+    return value
+
+
+def read_bound(answer):
+    return None if answer == [-6] else read_one(answer)
+
+
 def draw_velocity(source, size):
     return (source.randint(-size, size), source.randint(-size, size))
+
+
+def draw_places(source, count, size):
+    """Places with now and then the same one twice."""
+    places = [draw_velocity(source, size)]
+    while len(places) < count:
+        places.append(places[-1] if source.randint(0, 7) == 0 else draw_velocity(source, size))
+    return places
+
+
+def round_slices():
+    """Twelve slices, each of twenty-four velocities all round, with hardly a side like another."""
+    angles = [[math.tau * (j + k / 12) / 24 for j in range(24)] for k in range(12)]
+    return [(k, [(round(1000 * math.cos(angle)), round(1000 * math.sin(angle))) for angle in angles[k]])
+            for k in range(12)]
 
 
 def draw_slices(source, most_slices, most_velocities, size, last_begin):

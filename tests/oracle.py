@@ -178,3 +178,83 @@ def least_by_words(slices, x, y, t):
         if till is None or most <= till - since:
             return k, proof, since + most
         behind.append((k, till - since))
+
+
+def spans_by_words(slices, t, u):
+    """(slice, how long) of each slice that one is in from t till u."""
+    found = []
+    for k, since, till in stays(slices, t):
+        if since < u:
+            found.append((k, (u if till is None else min(till, u)) - since))
+    return found
+
+
+def set_by_sums(slices, t, u):
+    """The set's corners: slice by slice every sum of a corner till then and a velocity all the time."""
+    corners = [(0, 0)]
+    for k, span in spans_by_words(slices, t, u):
+        velocities = slices[k][1] + [(0, 0)]
+        corners = corners_by_pairs([(x + a * span, y + b * span) for x, y in corners for a, b in velocities])
+    return corners
+
+
+def set_support(slices, t, u, a, b):
+    return sum(support_by_words(slices[k][1], a, b) * span for k, span in spans_by_words(slices, t, u))
+
+
+def is_within(corners, point):
+    """Whether a place lies in the figure of these corners, its border with it."""
+    if len(corners) == 1:
+        return tuple(point) == corners[0]
+    if len(corners) == 2:
+        p, q = corners
+        return bend(p, q, point) == 0 and 0 <= along(p, q, point) <= along(p, q, q)
+    return all(bend(p, q, point) >= 0 for p, q in zip(corners, corners[1:] + corners[:1]))
+
+
+def course_by_words(slices, t, places, least_of=least_by_words):
+    """The time of each leg up to the first that never arrives."""
+    times = []
+    for (x, y), (p, q) in zip(places, places[1:]):
+        told = least_of(slices, p - x, q - y, t)
+        if told is None or told[0] is None:
+            return times
+        t = Fraction(told[-1])
+        times.append(t)
+    return times
+
+
+def joined(slices):
+    """One slice alone with the velocities of all."""
+    return [(0, [velocity for begin, velocities in slices for velocity in velocities])]
+
+
+def bound_by_words(slices, places):
+    times = course_by_words(joined(slices), 0, places)
+    return times[-1] if len(times) == len(places) - 1 else None
+
+
+def first_false(slices, t, claims):
+    """The first claim that can't be, None if each can: its way has to lie in the set of its two times."""
+    before = (0, 0, t)
+    for k, claim in enumerate(claims):
+        step = (claim[0] - before[0], claim[1] - before[1])
+        if not is_within(set_by_sums(slices, before[2], claim[2]), step):
+            return k
+        before = claim
+    return None
+
+
+def speed_by_crossing(velocities, a, b):
+    """The greatest r such that r (a, b) is in the hull: where the ray meets a side, or a corner lies on it."""
+    corners = corners_by_pairs(velocities)
+    found = [Fraction(0)]
+    for p, q in zip(corners, corners[1:] + corners[:1]):
+        if a * p[1] == b * p[0]:
+            found.append(Fraction(a * p[0] + b * p[1], a * a + b * b))
+        left, right = a * q[1] - b * q[0], a * p[1] - b * p[0]
+        if left != right and min(left, right) <= 0 <= max(left, right):
+            share = Fraction(-right, left - right)
+            x, y = p[0] + share * (q[0] - p[0]), p[1] + share * (q[1] - p[1])
+            found.append((a * x + b * y) / (a * a + b * b))
+    return max(found)

@@ -3,16 +3,13 @@
 import random
 import unittest
 
-from tests.helper import FASTEST, HUGE, ask, ask_last, ask_of, draw_slices, hull, inside, slice_call, support
+from tests.helper import FASTEST, HUGE, ask, ask_last, ask_of, draw_slices, hull, inside, read_corners, slice_call
+from tests.helper import support
 from tests.oracle import bend, corners_by_pairs, support_by_words
 
 
 def corners(*velocities):
-    told = ask_last(slice_call(0, *velocities), hull(0))
-    found = [tuple(told[k:k + 2]) for k in range(1, len(told), 2)]
-    if len(found) != told[0]:
-        raise AssertionError(told)
-    return found
+    return read_corners(ask_last(slice_call(0, *velocities), hull(0)))
 
 
 def is_inside(*velocities):

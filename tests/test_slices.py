@@ -1,9 +1,9 @@
-"""The calls begin and slice."""
+"""The calls begin, slice and slices."""
 
 import unittest
 
-from tests.helper import BEGIN, FASTEST, HUGE, LAST_TIME, ask, ask_last, hull, inside, least, reach
-from tests.helper import slice_call, slice_numbers, support, way
+from tests.helper import ALL, BEGIN, FASTEST, HUGE, LAST_TIME, SLICES, ask, ask_last, bound, check, course, hull
+from tests.helper import inside, least, reach, set_call, slice_call, slice_numbers, speed, support, way
 
 TWELVE = [slice_call(10 * k, (k, 1)) for k in range(12)]
 
@@ -17,6 +17,10 @@ class BeginTest(unittest.TestCase):
         told = ask(slice_call(0, (1, 0)), slice_call(5, (1, 0)), least(3, 0, 0), BEGIN,
                    hull(0), inside(0), support(0, 1, 1), least(0, 0, 0), way(0, 0, 0), reach(0, 0, 0, 0))
         self.assertEqual(told[4:], [[-2], [-2], [-2], [-4], [-4], [-4]])
+        told = ask(slice_call(0, (1, 0)), slice_call(5, (1, 0)), bound((0, 0), (3, 0)), ALL, BEGIN,
+                   set_call(0, 0), course(0, (0, 0), (0, 0)), ALL, bound((0, 0), (0, 0)), check(0, (0, 0, 0)),
+                   speed(0, 1, 1), SLICES)
+        self.assertEqual(told[5:], [[-4], [-4], [-4], [-4], [-4], [-2], [0]])
 
     def test_slices_anew(self):
         told = ask(slice_call(0, (1, 0)), slice_call(5, (1, 0)), least(9, 0, 0), BEGIN,
@@ -100,6 +104,34 @@ class SliceTest(unittest.TestCase):
         told = ask(*TWELVE, *asked, slice_call(200, (1000, 1000)), *asked)
         self.assertEqual(told[15], [-3])
         self.assertEqual(told[16:], told[12:15])
+
+
+class SlicesTest(unittest.TestCase):
+    def test_none(self):
+        self.assertEqual(ask(SLICES), [[0]])
+
+    def test_some(self):
+        told = ask(slice_call(0, (1, 0)), SLICES, slice_call(7, (1, 0)), SLICES, slice_call(LAST_TIME, (1, 0)), SLICES)
+        self.assertEqual(told[1::2], [[1, 0], [2, 0, 7], [3, 0, 7, LAST_TIME]])
+        self.assertEqual(ask_last(*TWELVE, SLICES), [12] + [10 * k for k in range(12)])
+
+    def test_after_begin(self):
+        told = ask(slice_call(0, (1, 0)), slice_call(7, (1, 0)), BEGIN, SLICES, slice_call(0, (1, 0)), SLICES)
+        self.assertEqual(told[3::2], [[0], [1, 0]])
+
+    def test_after_a_refusal(self):
+        self.assertEqual(ask(slice_call(3, (1, 0)), SLICES, slice_numbers(0, []), SLICES)[1::2], [[0], [0]])
+        refused = [slice_call(7, (1, 0)), slice_call(-1, (1, 0)), slice_numbers(8, [1]), slice_call(8, (FASTEST + 1, 0))]
+        for call in refused:
+            told = ask(slice_call(0, (1, 0)), slice_call(7, (1, 0)), call, SLICES)
+            self.assertLess(told[2][0], 0)
+            self.assertEqual(told[3], [2, 0, 7])
+        self.assertEqual(ask_last(*TWELVE, slice_call(500, (1, 0)), SLICES), [12] + [10 * k for k in range(12)])
+
+    def test_asking_changes_nothing(self):
+        asked = [hull(0), least(1, 0, 0), set_call(0, 9), ALL, bound((0, 0), (1, 0)), speed(0, 1, 0), SLICES]
+        told = ask(slice_call(0, (1, 0)), slice_call(7, (0, 1)), SLICES, *asked, SLICES)
+        self.assertEqual([told[2], told[-2], told[-1]], [[2, 0, 7]] * 3)
 
 
 if __name__ == "__main__":
